@@ -1,0 +1,1 @@
+"""Gifts drawn by lot: circles, and who gives to whom in them."""

@@ -1,0 +1,23 @@
+"""The shapes that circles and drawings are made of, looked at in things of any kind."""
+
+from lotgivers.names import is_name
+
+
+def is_rising(things):
+    """Whether each of these comparable things is less than the next one."""
+    return all([low < high for low, high in zip(things, things[1:])])
+
+
+def are_names(thing):
+    """Whether this, of anything, is a rising tuple of names."""
+    return isinstance(thing, tuple) and all([is_name(part) for part in thing]) and is_rising(thing)
+
+
+def is_pair(thing):
+    """Whether this, of anything, is a tuple of two names."""
+    return isinstance(thing, tuple) and len(thing) == 2 and all([is_name(part) for part in thing])
+
+
+def are_pairs(thing):
+    """Whether this, of anything, is a rising tuple of (giver, taker), names."""
+    return isinstance(thing, tuple) and all([is_pair(part) for part in thing]) and is_rising(thing)

@@ -1,0 +1,64 @@
+"""The interface: each name in its own file, with the arguments told."""
+
+import importlib
+import inspect
+import unittest
+
+FUNCTIONS = {
+    "names.is_name": "(thing)",
+    "circles.is_circle": "(members, bars, past, gap)",
+    "drawings.keeps": "(circle, drawing)",
+    "drawings.broken": "(circle, drawing)",
+    "finding.some_drawing": "(circle)",
+    "fewlooks.shows_few": "(circle, thing)",
+    "knowing.may_by": "(circle, known)",
+}
+CLASSES = {
+    "errors.NoMember": "(name)",
+    "errors.NoDrawing": "(thing)",
+    "errors.TooFew": "(lot)",
+    "errors.NoNumber": "(number)",
+    "errors.TooMany": "(many)",
+    "errors.Twice": "(name)",
+    "errors.NoBar": "(giver, taker)",
+    "errors.NoText": "(row)",
+    "circles.Circle": "(members, bars=None, past=None, gap=1)",
+    "drawings.Drawing": "(pairs)",
+}
+METHODS = {
+    "circles.Circle": {
+        "__eq__": "(self, other)", "__len__": "(self)", "__repr__": "(self)", "__str__": "(self)",
+        "names": "(self)", "house_of": "(self, name)", "reason": "(self, giver, taker)",
+        "takers": "(self, giver)", "givers": "(self, taker)",
+    },
+    "drawings.Drawing": {
+        "__eq__": "(self, other)", "__len__": "(self)", "__repr__": "(self)", "__str__": "(self)",
+        "taker_of": "(self, name)", "giver_of": "(self, name)", "chains": "(self)",
+    },
+}
+
+
+def found(place):
+    """What stands under this name in this file of the package."""
+    file, name = place.split(".")
+    return getattr(importlib.import_module("lotgivers." + file), name)
+
+
+class TestInterface(unittest.TestCase):
+    def test_arguments(self):
+        for place, arguments in {**FUNCTIONS, **CLASSES}.items():
+            self.assertEqual(str(inspect.signature(found(place))), arguments, place)
+
+    def test_defined_in_the_file_told(self):
+        for place in [*FUNCTIONS, *CLASSES, "errors.LotError", "errors.NoYear", "errors.NoBack", "errors.NoRow"]:
+            self.assertEqual(found(place).__module__, "lotgivers." + place.split(".")[0])
+
+    def test_methods_in_the_class_itself(self):
+        for place, methods in METHODS.items():
+            for name, arguments in methods.items():
+                self.assertIn(name, vars(found(place)))
+                self.assertEqual(str(inspect.signature(vars(found(place))[name])), arguments, (place, name))
+
+
+if __name__ == "__main__":
+    unittest.main()
