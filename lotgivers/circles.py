@@ -2,7 +2,7 @@
 
 from lotgivers.errors import NoMember
 from lotgivers.names import is_name
-from lotgivers.shapes import are_pairs, is_rising
+from lotgivers.shapes import are_pairs, is_rising, is_whole
 
 
 class Circle:
@@ -133,4 +133,4 @@ def are_years(thing):
 
 def is_gap(thing):
     """Whether this, of anything, is a whole number from 0 of at most thirty figures."""
-    return isinstance(thing, int) and not isinstance(thing, bool) and 0 <= thing < 10 ** 30
+    return is_whole(thing) and 0 <= thing < 10 ** 30

@@ -56,6 +56,11 @@ def are_drawing(thing):
     return is_rising(givers) and sorted([taker for _, taker in thing]) == givers
 
 
+def likeness(thing):
+    """Another Drawing like this one; a thing of any other kind as it is."""
+    return Drawing(thing.pairs) if isinstance(thing, Drawing) else thing
+
+
 def chain_from(taker_of, name):
     """The names from this one on, each giving to the next, until one gives to the first."""
     chain = [name]

@@ -1,15 +1,21 @@
 """What is known of some pairs, and which pairs may be by it."""
 
+from lotgivers.drawings import Drawing
 from lotgivers.errors import NoMember
+
+
+def refuse_strangers(circle, names):
+    """Refuses the first of these things, of any kind, that is no member's name."""
+    for name in names:
+        if not circle.has(name):
+            raise NoMember(name)
 
 
 def facts_of(circle, known):
     """The knowledge as rows, () of None, none of them naming who is no member."""
     facts = () if known is None else known
     for giver, taker, _ in facts:
-        for name in (giver, taker):
-            if not circle.has(name):
-                raise NoMember(name)
+        refuse_strangers(circle, (giver, taker))
     return facts
 
 
@@ -27,3 +33,20 @@ def bars_pair(fact, pair):
         return not holds
     # A pair that holds leaves its giver no other taker, and its taker no other giver.
     return holds and (giver == pair[0] or taker == pair[1])
+
+
+def fits(circle, pairs, thing):
+    """Whether this, of anything, is a Drawing of the circle's names, all its pairs among these."""
+    if not isinstance(thing, Drawing) or thing.names() != circle.names():
+        return False
+    return all([pair in pairs for pair in thing.pairs])
+
+
+def without_pair(pairs, giver, taker):
+    """These pairs but this one: a drawing of them shows that it need not be."""
+    return tuple([pair for pair in pairs if pair != (giver, taker)])
+
+
+def without_others(pairs, giver, taker):
+    """These pairs but all others of this giver and of this taker: a drawing of them has this one."""
+    return tuple([pair for pair in pairs if pair == (giver, taker) or (pair[0] != giver and pair[1] != taker)])

@@ -1,6 +1,6 @@
 """Givers matched with takers, or the givers who are too many for theirs.
 
-Here may is a dict that tells of each giver the tuple of those whom this one
+Here may is a dict that tells of each giver in turn those whom this one
 may take; nobody is matched yet with more than one.
 """
 

@@ -3,6 +3,11 @@
 from lotgivers.names import is_name
 
 
+def is_whole(thing):
+    """Whether this, of anything, is a whole number: an int that is no truth."""
+    return isinstance(thing, int) and not isinstance(thing, bool)
+
+
 def is_rising(things):
     """Whether each of these comparable things is less than the next one."""
     return all([low < high for low, high in zip(things, things[1:])])

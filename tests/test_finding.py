@@ -9,12 +9,7 @@ from lotgivers.drawings import Drawing, keeps
 from lotgivers.errors import TooFew
 from lotgivers.fewlooks import shows_few
 from lotgivers.finding import some_drawing
-from things import all_pairs, free, letters, no_names, oddities, only, subsets
-
-
-def counted(lot, pairs):
-    """Whether all whom these may take, by these pairs, are fewer than these."""
-    return len({taker for giver, taker in pairs if giver in lot}) < len(lot)
+from things import all_pairs, counted, free, letters, no_names, oddities, only, subsets
 
 
 def has_drawing(names, pairs):

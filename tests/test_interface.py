@@ -12,6 +12,13 @@ FUNCTIONS = {
     "finding.some_drawing": "(circle)",
     "fewlooks.shows_few": "(circle, thing)",
     "knowing.may_by": "(circle, known)",
+    "counting.many": "(circle, known=None)",
+    "counting.kth": "(circle, number, known=None)",
+    "counting.number_of": "(circle, drawing, known=None)",
+    "counting.drawn": "(circle, lot, known=None)",
+    "counting.counts": "(circle, known=None)",
+    "shares.share": "(circle, giver, taker, known=None)",
+    "telling.tells": "(circle, known, giver, taker)",
 }
 CLASSES = {
     "errors.NoMember": "(name)",
@@ -24,6 +31,7 @@ CLASSES = {
     "errors.NoText": "(row)",
     "circles.Circle": "(members, bars=None, past=None, gap=1)",
     "drawings.Drawing": "(pairs)",
+    "shares.Share": "(part, whole)",
 }
 METHODS = {
     "circles.Circle": {
@@ -34,6 +42,9 @@ METHODS = {
     "drawings.Drawing": {
         "__eq__": "(self, other)", "__len__": "(self)", "__repr__": "(self)", "__str__": "(self)",
         "taker_of": "(self, name)", "giver_of": "(self, name)", "chains": "(self)",
+    },
+    "shares.Share": {
+        "__eq__": "(self, other)", "__repr__": "(self)", "__str__": "(self)", "more_than": "(self, other)",
     },
 }
 

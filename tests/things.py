@@ -1,5 +1,7 @@
 """What several tests hand in: things of all kinds, and small circles."""
 
+import random
+import unittest
 from itertools import combinations, permutations
 
 from lotgivers.circles import Circle
@@ -96,3 +98,77 @@ def subsets(things):
 def letters(many):
     """That many names, rising."""
     return [first + second for first in "abcde" for second in "abcdefghij"][:many]
+
+
+def drawings_of(circle, known=()):
+    """The pairs of all drawings that keep and fit, rising: all orders of takers, looked at one after the other."""
+    names = circle.names()
+    may = {(giver, taker) for giver in names for taker in names if circle.reason(giver, taker) is None}
+    orders = [tuple(zip(names, takers)) for takers in permutations(names)]
+    return [
+        rows for rows in orders
+        if set(rows) <= may and all(((giver, taker) in rows) is holds for giver, taker, holds in known)
+    ]
+
+
+def pairs_by(circle, known):
+    """The pairs that may be by what is known, by the words of the document."""
+    told = []
+    for giver in circle.names():
+        for taker in circle.names():
+            true = [row[:2] for row in known if row[2] and (row[0] == giver or row[1] == taker)]
+            if (
+                circle.reason(giver, taker) is None
+                and (giver, taker, False) not in known
+                and all(row == (giver, taker) for row in true)
+            ):
+                told.append((giver, taker))
+    return told
+
+
+def counted(lot, pairs):
+    """Whether all whom these may take, by these pairs, are fewer than these."""
+    return len({taker for giver, taker in pairs if giver in lot}) < len(lot)
+
+
+def knowledge(names, seed, most):
+    """Some pairs of these, at the most so many, with truths, as chance has it."""
+    chance = random.Random(seed)
+    pairs = [(giver, taker) for giver in names for taker in names]
+    some = chance.sample(pairs, min(len(pairs), chance.randrange(most + 1)))
+    return tuple((*pair, chance.random() < 0.3) for pair in sorted(some))
+
+
+def chance_circle(names, seed):
+    """A circle of these with houses, bars and years, as chance has it."""
+    chance = random.Random(seed)
+    members = tuple((name, chance.choice(["", "", "", "elm", "oak"])) for name in sorted(names))
+    pairs = all_pairs(names)
+    bars = tuple(sorted(chance.sample(pairs, chance.randrange(len(pairs) // 2 + 1))))
+    past = tuple(tuple(sorted(chance.sample(pairs, chance.randrange(len(names) + 1)))) for _ in range(3))
+    return Circle(members, bars, past, chance.randrange(4))
+
+
+class Asking(unittest.TestCase):
+    """What several tests ask for."""
+
+    def refused(self, refusal, borne, ask, *things, **named):
+        """That this is refused, each time it is asked, by a refusal of just this class that bears just this."""
+        for _ in range(2):
+            with self.assertRaises(LotError) as caught:
+                ask(*things, **named)
+            self.assertIs(type(caught.exception), refusal)
+            (told,) = vars(caught.exception).values()
+            self.assertTrue(same_kind(told, borne), (told, borne))
+
+    def in_any_order(self, told, ask, **named):
+        """That this is told where these arguments are handed in by their names, in any order."""
+        for order in permutations(named.items()):
+            self.assertEqual(ask(**dict(order)), told, order)
+
+    def is_lot(self, circle, lot, pairs):
+        """That this is a lot of the circle's names who may take, by these pairs, fewer than they are."""
+        self.assertIs(type(lot), tuple)
+        self.assertEqual(lot, tuple(sorted(set(lot))))
+        self.assertTrue(set(lot) <= set(circle.names()))
+        self.assertTrue(counted(lot, pairs), (lot, pairs))
