@@ -19,6 +19,14 @@ FUNCTIONS = {
     "counting.counts": "(circle, known=None)",
     "shares.share": "(circle, giver, taker, known=None)",
     "telling.tells": "(circle, known, giver, taker)",
+    "tellooks.shows_tells": "(circle, known, giver, taker, thing)",
+    "changing.without": "(circle, name)",
+    "changing.with_one": "(circle, member)",
+    "mending.lacking": "(circle, pairs)",
+    "mending.mended": "(circle, pairs)",
+    "mending.fallen_out": "(circle, drawing, name)",
+    "mending.come_in": "(circle, drawing, member)",
+    "mendlooks.shows_mended": "(circle, pairs, drawing, layers)",
 }
 CLASSES = {
     "errors.NoMember": "(name)",
