@@ -48,36 +48,72 @@ class Circle:
 
     def house_of(self, name):
         """The house of this member, an empty text where there is none."""
-        if not self.has(name):
-            raise NoMember(name)
-        return dict(self.members)[name]
+        # Things that are no names may be == to one.
+        if is_name(name):
+            for one, house in self.members:
+                if one == name:
+                    return house
+        raise NoMember(name)
 
     def reason(self, giver, taker):
         """The first reason why this one may not take that one, None where there is none."""
         house = self.house_of(giver)
         other_house = self.house_of(taker)
-        pair = (giver, taker)
-        if giver == taker:
-            return "self"
-        if house != "" and house == other_house:
-            return "house"
-        if pair in self.bars:
-            return "bar"
-        if any([pair in year for year in last_of(self.past, self.gap)]):
-            return "past"
-        return None
+        # Bars rise: the pair is one of them only where it stands in its own place.
+        place = place_of(self.bars, (giver, taker))
+        houses = {giver: house, taker: other_house}
+        return reason_of(giver, taker, houses, self.bars[place:place + 1], last_of(self.past, self.gap))
+
+    def barred(self):
+        """All pairs of the bars and of the last gap years."""
+        return [*self.bars, *[pair for year in last_of(self.past, self.gap) for pair in year]]
 
     def takers(self, giver):
         """The names of those whom this one may take, rising."""
-        if not self.has(giver):
-            raise NoMember(giver)
-        return tuple([name for name in self.names() if self.reason(giver, name) is None])
+        house = self.house_of(giver)
+        gone = {taker: True for one, taker in self.barred() if one == giver}
+        return others_of(self.members, giver, house, gone)
 
     def givers(self, taker):
         """The names of those who may take this one, rising."""
-        if not self.has(taker):
-            raise NoMember(taker)
-        return tuple([name for name in self.names() if self.reason(name, taker) is None])
+        house = self.house_of(taker)
+        gone = {giver: True for giver, one in self.barred() if one == taker}
+        return others_of(self.members, taker, house, gone)
+
+
+def reason_of(giver, taker, houses, bars, years):
+    """The first reason against this pair, by the members' houses, and bars and years to be looked into."""
+    if giver == taker:
+        return "self"
+    if houses[giver] != "" and houses[giver] == houses[taker]:
+        return "house"
+    if (giver, taker) in bars:
+        return "bar"
+    for year in years:
+        if (giver, taker) in year:
+            return "past"
+    return None
+
+
+def others_of(members, name, house, gone):
+    """The names of the members, rising, but this one, who is of this house, its other members, and those gone."""
+    return tuple([
+        other for other, other_house in members
+        if other != name and (house == "" or other_house != house) and other not in gone
+    ])
+
+
+def place_of(pairs, pair):
+    """The place at which this pair stands, or would stand, in these, which rise."""
+    low = 0
+    high = len(pairs)
+    while low < high:
+        middle = (low + high) // 2
+        if pairs[middle] < pair:
+            low = middle + 1
+        else:
+            high = middle
+    return low
 
 
 def last_of(years, gap):

@@ -8,7 +8,8 @@ whole number in which the bit of each of them is set.
 
 from lotgivers.drawings import Drawing, likeness
 from lotgivers.errors import NoDrawing, NoNumber, TooMany
-from lotgivers.knowing import fits, may_by
+from lotgivers.knowing import facts_of, fits, rows_by
+from lotgivers.rows import bits_of
 from lotgivers.shapes import is_whole
 
 MOST = 10
@@ -29,9 +30,10 @@ def kth(circle, number, known=None):
 
 def number_of(circle, drawing, known=None):
     """The number of this drawing among those that keep and fit."""
-    table = table_of(circle, known)
-    if not fits(circle, may_by(circle, known), drawing):
+    rows = rows_of_few(circle, known)
+    if not fits(rows, drawing):
         raise NoDrawing(likeness(drawing))
+    table = table_by(rows)
     number = 0
     free = all_of(table)
     for (giver, row), behind in zip(table.items(), ways_behind(table)):
@@ -62,16 +64,23 @@ def counts(circle, known=None):
     return tuple(rows)
 
 
-def table_of(circle, known):
-    """Of each giver, rising, a dict of those whom this one may take, rising, and their bits."""
-    pairs = may_by(circle, known)
+def rows_of_few(circle, known):
+    """The rows (told in rows.py) by what is known, of a circle that has no more members than can be asked about."""
+    facts = facts_of(circle, known)
     if len(circle) > MOST:
         raise TooMany(len(circle))
-    bits = {name: 1 << place for place, name in enumerate(circle.names())}
-    table = {name: {} for name in bits}
-    for giver, taker in pairs:
-        table[giver][taker] = bits[taker]
-    return table
+    return rows_by(circle, facts)
+
+
+def table_of(circle, known):
+    """The table of such rows."""
+    return table_by(rows_of_few(circle, known))
+
+
+def table_by(rows):
+    """Of each giver, rising, a dict of those whom this one may take, rising, and their bits."""
+    bits = bits_of(rows)
+    return {giver: {taker: bit for taker, bit in bits.items() if row & bit} for giver, row in rows.items()}
 
 
 def all_of(table):

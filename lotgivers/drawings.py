@@ -1,5 +1,6 @@
 """Drawings: who gives to whom, and whether a circle allows it."""
 
+from lotgivers.circles import last_of, reason_of
 from lotgivers.errors import NoDrawing, NoMember
 from lotgivers.names import is_name
 from lotgivers.shapes import are_pairs, is_rising
@@ -71,7 +72,7 @@ def chain_from(taker_of, name):
 
 def keeps(circle, drawing):
     """Whether the drawing is one of the circle's names, and all its pairs may be."""
-    return circle.names() == drawing.names() and broken(circle, drawing) == ()
+    return circle.names() == drawing.names() and reasons_against(circle, drawing.pairs) == ()
 
 
 def broken(circle, drawing):
@@ -79,5 +80,14 @@ def broken(circle, drawing):
     strangers = sorted(set(circle.names()) ^ set(drawing.names()))
     if strangers:
         raise NoMember(strangers[0])
-    rows = [(giver, taker, circle.reason(giver, taker)) for giver, taker in drawing.pairs]
+    return reasons_against(circle, drawing.pairs)
+
+
+def reasons_against(circle, pairs):
+    """Those of these pairs, of members, that may not be, each with its reason."""
+    houses = dict(circle.members)
+    # As keys, bars and years are looked into for all pairs in one go.
+    bars = {pair: True for pair in circle.bars}
+    years = [{pair: True for year in last_of(circle.past, circle.gap) for pair in year}]
+    rows = [(giver, taker, reason_of(giver, taker, houses, bars, years)) for giver, taker in pairs]
     return tuple([row for row in rows if row[2] is not None])

@@ -1,36 +1,56 @@
 """Givers matched with takers, or the givers who are too many for theirs.
 
-Here may is a dict that tells of each giver in turn those whom this one
-may take; nobody is matched yet with more than one.
+Rows are as told in rows.py; nobody is matched yet with more than one.
 """
 
 
-def matched(may):
+def matched(rows):
     """(taker_of, ()), a dict of each giver's own taker; or (None, lot), of whom some go without."""
-    taker_of = {}
+    taken_by = {}
     giver_of = {}
-    for giver in may:
-        reached_by = reached(may, giver_of, giver)
-        free = [taker for taker in reached_by if taker not in giver_of]
-        if not free:
-            # All whom these may take are reached, and each of those is given to by another of these.
-            return None, tuple(sorted([giver, *[giver_of[taker] for taker in reached_by]]))
-        hand_on(taker_of, giver_of, reached_by, free[0])
-    return taker_of, ()
+    taken = 0
+    for giver, row in rows.items():
+        free = row & ~taken
+        # The lowest bit of those set, none of none.
+        bit = free & -free
+        if bit:
+            taken_by[giver] = bit
+            giver_of[bit] = giver
+        else:
+            reached_by, bit = way_to_free(rows, giver_of, taken, giver)
+            if not bit:
+                # All whom these may take are reached, and each of those is given to by another of these.
+                return None, tuple(sorted([giver, *[giver_of[one] for one in reached_by]]))
+            hand_on(taken_by, giver_of, reached_by, bit)
+        taken |= bit
+    names = list(rows)
+    return {giver: names[bit.bit_length() - 1] for giver, bit in taken_by.items()}, ()
 
 
-def reached(may, giver_of, giver):
-    """Who could be freed for this giver, as a dict of each such taker and the giver who would take them."""
+def way_to_free(rows, giver_of, taken, giver):
+    """(reached_by, free): the first free taker that could be freed for this giver, 0 where there is none.
+
+    Of each taker on the way, a bit, reached_by tells the giver who would take
+    this one; where no taker is free, of all who could be freed.
+    """
     reached_by = {}
+    seen = 0
     waiting = [giver]
     while waiting:
         asking = waiting.pop()
-        for taker in may[asking]:
-            if taker not in reached_by:
-                reached_by[taker] = asking
-                if taker in giver_of:
-                    waiting.append(giver_of[taker])
-    return reached_by
+        new = rows[asking] & ~seen
+        seen |= new
+        free = new & ~taken
+        if free:
+            bit = free & -free
+            reached_by[bit] = asking
+            return reached_by, bit
+        while new:
+            bit = new & -new
+            new ^= bit
+            reached_by[bit] = asking
+            waiting.append(giver_of[bit])
+    return reached_by, 0
 
 
 def hand_on(taker_of, giver_of, reached_by, free):

@@ -2,6 +2,8 @@
 
 from lotgivers.names import is_name
 
+FIGURES = "0123456789"
+
 
 def is_whole(thing):
     """Whether this, of anything, is a whole number: an int that is no truth."""
@@ -18,11 +20,23 @@ def are_names(thing):
     return isinstance(thing, tuple) and all([is_name(part) for part in thing]) and is_rising(thing)
 
 
+def are_some_of(names, thing):
+    """Whether this, of anything, is a rising tuple of some of these names, or of none."""
+    return are_names(thing) and all([name in names for name in thing])
+
+
 def is_pair(thing):
     """Whether this, of anything, is a tuple of two names."""
-    return isinstance(thing, tuple) and len(thing) == 2 and all([is_name(part) for part in thing])
+    return isinstance(thing, tuple) and len(thing) == 2 and is_name(thing[0]) and is_name(thing[1])
 
 
 def are_pairs(thing):
     """Whether this, of anything, is a rising tuple of (giver, taker), names."""
     return isinstance(thing, tuple) and all([is_pair(part) for part in thing]) and is_rising(thing)
+
+
+def is_figures(thing):
+    """Whether this, of anything, is a text of at most thirty figures, no 0 ahead but in 0 itself."""
+    if not isinstance(thing, str) or not 1 <= len(thing) <= 30 or thing.strip(FIGURES) != "":
+        return False
+    return thing == "0" or thing[0] != "0"
