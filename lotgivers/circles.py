@@ -30,13 +30,7 @@ class Circle:
         return f"Circle({len(self.members)})"
 
     def __str__(self):
-        rows = [
-            f"circle {self.gap}",
-            *member_rows(self.members),
-            *[f"bar {giver} {taker}" for giver, taker in self.bars],
-            *year_rows(self.past),
-        ]
-        return "\n".join(rows)
+        return circle_text(self.members, self.bars, self.past, self.gap)
 
     def names(self):
         """The members' names, rising."""
@@ -120,6 +114,12 @@ def last_of(years, gap):
     """The last gap years, all of them where there are fewer."""
     # Counted from the front: years[-gap:] would be all of them for a gap of 0.
     return years[max(0, len(years) - gap):]
+
+
+def circle_text(members, bars, past, gap):
+    """The text of a circle of these, row by row."""
+    rows = [f"circle {gap}", *member_rows(members), *[f"bar {giver} {taker}" for giver, taker in bars]]
+    return "\n".join([*rows, *year_rows(past)])
 
 
 def member_rows(members):

@@ -27,6 +27,10 @@ FUNCTIONS = {
     "mending.fallen_out": "(circle, drawing, name)",
     "mending.come_in": "(circle, drawing, member)",
     "mendlooks.shows_mended": "(circle, pairs, drawing, layers)",
+    "years.years": "(circle)",
+    "yearlooks.shows_years": "(circle, drawings, givers, takers)",
+    "rings.ring": "(circle)",
+    "rings.rings": "(circle)",
 }
 CLASSES = {
     "errors.NoMember": "(name)",

@@ -145,7 +145,9 @@ def chance_circle(names, seed):
     members = tuple((name, chance.choice(["", "", "", "elm", "oak"])) for name in sorted(names))
     pairs = all_pairs(names)
     bars = tuple(sorted(chance.sample(pairs, chance.randrange(len(pairs) // 2 + 1))))
-    past = tuple(tuple(sorted(chance.sample(pairs, chance.randrange(len(names) + 1)))) for _ in range(3))
+    past = tuple(
+        tuple(sorted(chance.sample(pairs, min(len(pairs), chance.randrange(len(names) + 1))))) for _ in range(3)
+    )
     return Circle(members, bars, past, chance.randrange(4))
 
 
