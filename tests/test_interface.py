@@ -31,6 +31,10 @@ FUNCTIONS = {
     "yearlooks.shows_years": "(circle, drawings, givers, takers)",
     "rings.ring": "(circle)",
     "rings.rings": "(circle)",
+    "ringlooks.shows_ring": "(circle, thing)",
+    "ringlooks.shows_no_ring": "(circle, thing)",
+    "reading.read_circle": "(text)",
+    "reading.read_drawing": "(text)",
 }
 CLASSES = {
     "errors.NoMember": "(name)",
@@ -44,6 +48,8 @@ CLASSES = {
     "circles.Circle": "(members, bars=None, past=None, gap=1)",
     "drawings.Drawing": "(pairs)",
     "shares.Share": "(part, whole)",
+    "clubs.Club": "(gap=1)",
+    "desk.Desk": "()",
 }
 METHODS = {
     "circles.Circle": {
@@ -58,6 +64,13 @@ METHODS = {
     "shares.Share": {
         "__eq__": "(self, other)", "__repr__": "(self)", "__str__": "(self)", "more_than": "(self, other)",
     },
+    "clubs.Club": {
+        "__eq__": "(self, other)", "__len__": "(self)", "__str__": "(self)",
+        "join": "(self, name, house='')", "leave": "(self, name)", "bar": "(self, giver, taker)",
+        "unbar": "(self, giver, taker)", "draw": "(self, lot)", "fall": "(self, name)",
+        "come": "(self, name, house='')", "back": "(self)", "circle": "(self)", "last": "(self)",
+    },
+    "desk.Desk": {"say": "(self, row)"},
 }
 
 
