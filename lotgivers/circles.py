@@ -30,7 +30,7 @@ class Circle:
         return f"Circle({len(self.members)})"
 
     def __str__(self):
-        return circle_text(self.members, self.bars, self.past, self.gap)
+        return "\n".join(circle_rows(self.members, self.bars, self.past, self.gap))
 
     def names(self):
         """The members' names, rising."""
@@ -116,10 +116,10 @@ def last_of(years, gap):
     return years[max(0, len(years) - gap):]
 
 
-def circle_text(members, bars, past, gap):
-    """The text of a circle of these, row by row."""
-    rows = [f"circle {gap}", *member_rows(members), *[f"bar {giver} {taker}" for giver, taker in bars]]
-    return "\n".join([*rows, *year_rows(past)])
+def circle_rows(members, bars, past, gap):
+    """The rows of the text of a circle of these."""
+    bar_rows = [f"bar {giver} {taker}" for giver, taker in bars]
+    return [f"circle {gap}", *member_rows(members), *bar_rows, *year_rows(past)]
 
 
 def member_rows(members):

@@ -1,7 +1,7 @@
 """A club: a circle that goes on from year to year, deed by deed, each of which can be taken back."""
 
 from lotgivers.changing import with_one, without
-from lotgivers.circles import Circle, circle_text
+from lotgivers.circles import Circle, circle_rows
 from lotgivers.counting import drawn
 from lotgivers.drawings import Drawing, keeps
 from lotgivers.errors import NoBack, NoBar, NoMember, NoYear, Twice
@@ -33,7 +33,7 @@ class Club:
         return len(self.past)
 
     def __str__(self):
-        return circle_text(self.members, self.bars, self.past, self.gap)
+        return "\n".join(circle_rows(self.members, self.bars, self.past, self.gap))
 
     def join(self, name, house=""):
         """One more member."""

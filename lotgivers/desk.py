@@ -93,13 +93,13 @@ def ask_circle(club, words):
     return str(club)
 
 
-# Of each word what is done, and what may stand behind it: N for each name, L for a lot.
 DEEDS = {
     "join": do_join, "leave": do_leave, "bar": do_bar, "unbar": do_unbar, "back": do_back,
     "draw": do_draw, "fall": do_fall, "come": do_come,
     "many": ask_many, "why": ask_why, "share": ask_share, "tells": ask_tells,
     "years": ask_years, "ring": ask_ring, "circle": ask_circle,
 }
+# What may stand behind each word: N is a name (or a house), L is a lot.
 FORMS = {
     "join": ("N", "NN"), "leave": ("N",), "bar": ("NN",), "unbar": ("NN",), "back": ("",),
     "draw": ("L",), "fall": ("N",), "come": ("N", "NN"),

@@ -32,12 +32,11 @@ def rows_by(circle, facts):
     """The rows (told in rows.py) of the pairs that may be by what is known."""
     rows = rows_of(circle)
     bits = bits_of(rows)
-    everybody = (1 << len(bits)) - 1
     givers_left = {}
     for giver, taker, holds in facts:
         if holds:
             rows[giver] &= bits[taker]
-            givers_left[taker] = givers_left.get(taker, everybody) & bits[giver]
+            givers_left[taker] = givers_left.get(taker, bits[giver]) & bits[giver]
         else:
             rows[giver] &= ~bits[taker]
     # A pair that holds leaves its taker no other giver; two of one taker leave none at all.

@@ -35,8 +35,6 @@ def are_pairs(thing):
     return isinstance(thing, tuple) and all([is_pair(part) for part in thing]) and is_rising(thing)
 
 
-def is_figures(thing):
-    """Whether this, of anything, is a text of at most thirty figures, no 0 ahead but in 0 itself."""
-    if not isinstance(thing, str) or not 1 <= len(thing) <= 30 or thing.strip(FIGURES) != "":
-        return False
-    return thing == "0" or thing[0] != "0"
+def is_figures(text):
+    """Whether this text is of at most thirty figures, no 0 ahead but in 0 itself."""
+    return 1 <= len(text) <= 30 and text.strip(FIGURES) == "" and (text == "0" or text[0] != "0")

@@ -38,8 +38,8 @@ def one_more_each(may, had):
     takers are all whom they may take but haven't. Of these takers each has one
     giver more already, and all givers of each are among these givers.
     """
-    more = {giver: row for giver, row in had.items()}
-    givers_of = {taker: sum([giver for giver, row in had.items() if row & taker]) for taker in had}
+    more = dict(had)
+    givers_of = turned(had)
     full = 0
     for giver in may:
         pairs, givers, takers = way_to_room(may, more, givers_of, full, giver)
@@ -50,6 +50,11 @@ def one_more_each(may, had):
             givers_of[taker] ^= one
         full |= pairs[0][1]
     return more, 0, 0
+
+
+def turned(had):
+    """Of each taker the givers who have this one."""
+    return {taker: sum([giver for giver, row in had.items() if row & taker]) for taker in had}
 
 
 def way_to_room(may, had, givers_of, full, giver):

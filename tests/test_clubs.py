@@ -241,6 +241,7 @@ class TestYears(Telling):
                 self.assertEqual(len(club), 1)
                 self.assertIsNone(club.back())
                 self.stands(club, free(*FOUR, past=(drawing.pairs,)))
+                self.assertEqual(club.fall(name=name), told)
 
     def test_who_comes(self):
         for lot in range(9):

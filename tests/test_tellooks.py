@@ -172,6 +172,15 @@ class TestOtherwise(Looking):
         ]:
             self.check(circle, known, "bert", "cleo", thing, False)
 
+    def test_no_other_word_stands_ahead_of_a_lot(self):
+        # The lot of anna alone counts for each of the three words that have one.
+        circle = only(THREE, set())
+        for word in WORDS:
+            self.check(circle, (), "anna", "bert", (word, ("anna",)), True)
+        for word in ["", "open", "None", "none ", "nones", "lot", "surely", "anna", "none\n", "NEVER"]:
+            self.check(circle, (), "anna", "bert", (word, ("anna",)), False)
+            self.check(circle, (), "anna", "bert", (word, THREE), False)
+
     def test_open_otherwise(self):
         circle = free(*THREE)
         word, drawing, other = tells(circle, (), "anna", "bert")
